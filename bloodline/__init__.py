@@ -1,0 +1,1 @@
+"""A line that blood goes through, and the guard that watches it."""
