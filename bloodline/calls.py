@@ -1,20 +1,13 @@
-"""The calls, each on an object and arguments that are in range, answering a list of numbers."""
+"""The calls 0 to 8, each on an object and arguments that are in range, answering a list of numbers."""
 
 from bloodline.moving import one_move
+from bloodline.pressures import A, V, is_bad, is_usual
 from bloodline.state import Amounts, FULL_CELL, SINK_DRAIN, SINK_PATIENT, Settings
+from bloodline.state import LATCH_PRESSURE_A, LATCH_PRESSURE_V, LATCH_STILL
 
 MOST_LINES = 1000000
 MOST_MOVES = 1000000000
 MOST_STILL = 1000000
-
-# A pair of pressures holds a before the pump first, then v behind the dialyser.
-A = 0
-V = 1
-USUAL_PRESSURES = ((-300, 100), (10, 400))
-
-LATCH_PRESSURE_A = 3
-LATCH_PRESSURE_V = 4
-LATCH_STILL = 7
 
 
 def lay(machine, arguments):
@@ -32,8 +25,7 @@ def clear_old_line(machine):
     totals = machine.totals
     for cell in machine.cells:
         totals.thrown_away.take_in(cell)
-    totals.vented += machine.caught
-    machine.caught = 0
+    machine.vent_trap()
 
 
 def forget_old_line(machine):
@@ -119,17 +111,6 @@ def press(machine, arguments):
             machine.raise_latch(LATCH_PRESSURE_V)
     machine.pressures = pressures
     return [machine.latches_number()]
-
-
-def is_bad(machine, pressures, which):
-    if not is_usual(pressures, which):
-        return True
-    return machine.centre is not None and abs(pressures[which] - machine.centre[which]) > machine.settings.p
-
-
-def is_usual(pressures, which):
-    limits = USUAL_PRESSURES[which]
-    return pressures[which] >= limits[0] and pressures[which] <= limits[1]
 
 
 def centre(machine):

@@ -3,6 +3,8 @@
 from bloodline.calls import bag, centre, lay, move, press, sink, source, ultra, wait
 from bloodline.ranges import all_in_range, how_many_arguments
 from bloodline.state import Machine
+from bloodline.telling import cell, look, totals
+from bloodline.tending import check, fault, leak, reset, slip, vent
 
 
 def answers(calls):
@@ -26,10 +28,12 @@ def answer_call(machine, place, arguments):
         return lay(machine, arguments)
     if machine.settings is None:
         return [-2]
-    return answer_on_line(machine, place, arguments)
+    if place <= 8:
+        return answer_running(machine, place, arguments)
+    return answer_tending(machine, place, arguments)
 
 
-def answer_on_line(machine, place, arguments):
+def answer_running(machine, place, arguments):
     if place == 1:
         return source(machine, arguments)
     if place == 2:
@@ -45,3 +49,23 @@ def answer_on_line(machine, place, arguments):
     if place == 7:
         return press(machine, arguments)
     return centre(machine)
+
+
+def answer_tending(machine, place, arguments):
+    if place == 9:
+        return leak(machine, arguments)
+    if place == 10:
+        return fault(machine, arguments)
+    if place == 11:
+        return slip(machine, arguments)
+    if place == 12:
+        return vent(machine)
+    if place == 13:
+        return check(machine)
+    if place == 14:
+        return reset(machine, arguments)
+    if place == 15:
+        return look(machine)
+    if place == 16:
+        return cell(machine, arguments)
+    return totals(machine)

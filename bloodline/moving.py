@@ -1,14 +1,10 @@
 """One move of the pump, step by step as the document numbers them."""
 
 from bloodline.state import Amounts, FULL_CELL, SINK_DRAIN, SINK_LOOP, SOURCE_BAG, SOURCE_PATIENT
+from bloodline.state import LATCH_AIR, LATCH_THICK, LATCH_UNCENTRED, LATCH_UNLIKE
 
 MOST_UNLIKE = 2
 MOST_UNCENTRED = 10
-
-LATCH_AIR = 0
-LATCH_UNLIKE = 1
-LATCH_THICK = 5
-LATCH_UNCENTRED = 6
 
 
 def one_move(machine):

@@ -9,6 +9,15 @@ SINK_LOOP = 2
 
 FULL_CELL = 1000
 
+LATCH_AIR = 0
+LATCH_UNLIKE = 1
+LATCH_LEAK = 2
+LATCH_PRESSURE_A = 3
+LATCH_PRESSURE_V = 4
+LATCH_THICK = 5
+LATCH_UNCENTRED = 6
+LATCH_STILL = 7
+
 
 class Amounts:
     """Red, water and air in microlitres: those of one cell, or a total of many."""
@@ -106,6 +115,9 @@ class Machine:
     def raise_latch(self, number):
         self.latches[number] = True
 
+    def lower_latch(self, number):
+        self.latches[number] = False
+
     def latches_number(self):
         number = 0
         worth = 1
@@ -114,6 +126,14 @@ class Machine:
                 number += worth
             worth *= 2
         return number
+
+    def vent_trap(self):
+        """Let the caught air out, and answer how much it was."""
+        let_out = self.caught
+        self.caught = 0
+        totals = self.totals
+        totals.vented += let_out
+        return let_out
 
     def forget_centring(self):
         self.pressures = None

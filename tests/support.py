@@ -48,7 +48,7 @@ def triple(amounts):
 
 
 class Table:
-    """One object and calls on it; what no call of 0 to 8 reaches is set on the machine itself."""
+    """One object and calls on it, with a way to set what only long rows of calls would bring about."""
 
     def __init__(self, **changes):
         self.machine = Machine()
@@ -84,6 +84,35 @@ class Table:
     def centre(self):
         return self.call(8)
 
+    def leak(self, x):
+        return self.call(9, x)
+
+    def fault(self, c, m, v):
+        return self.call(10, c, m, v)
+
+    def slip(self, which, m):
+        return self.call(11, which, m)
+
+    def vent(self):
+        return self.call(12)
+
+    def check(self):
+        return self.call(13)
+
+    def reset(self, b):
+        return self.call(14, b)
+
+    def look(self):
+        return self.call(15)
+
+    def totals(self):
+        return self.call(17)
+
+    def stick(self, first, second):
+        """Each channel stuck at its number, or true where that's None."""
+        for channel, number in enumerate([first, second]):
+            assert self.fault(channel, 0 if number is None else 1, number or 0) == [0]
+
     def picture(self):
         return picture(self.machine)
 
@@ -106,9 +135,11 @@ def flushed(h=300, **changes):
     """A line full of the patient's blood, clean, with no latch up and not joined."""
     table = Table(**changes)
     table.source(2, h)
-    table.move(table.machine.settings.n * 2)
-    # The first move of every line raises latch 0, and no call of 0 to 8 but lay lowers one.
-    table.machine.latches = [False] * 8
+    # The longest line is longer than half of what one call may move.
+    table.move(table.machine.settings.n)
+    table.move(table.machine.settings.n)
+    # The first move of every line raises latch 0.
+    assert table.reset(0) == [0]
     return table
 
 
@@ -123,3 +154,12 @@ def centred(a=-100, v=200, **changes):
     assert table.press(a, v) == [0]
     assert table.centre() == [0]
     return table
+
+
+def joining(h=300, **changes):
+    """The calls that lay a line, fill it with the patient's blood and join it, for use with answers."""
+    return [[0] + settings(**changes), [1, 2, h], [5, 100], [14, 0], [3, 1]]
+
+
+def centring(a=-100, v=200, **changes):
+    return joining(**changes) + [[7, a, v], [8]]

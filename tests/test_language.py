@@ -1,6 +1,7 @@
 """The package keeps to the small part of Python that it's written in, as far as a walk over it can tell."""
 
 import ast
+import builtins
 import pathlib
 import re
 import unittest
@@ -24,6 +25,16 @@ type typing typing_extensions enum Enum IntEnum StrEnum Flag IntFlag Generic Pro
 NamedTuple TypedDict TYPE_CHECKING abstractmethod
 """.split()
 
+NAMES_NOT_USED = """
+register mro elements open input version_info with_traceback add_note attrgetter breakpoint builtins compile copyright
+credits delattr dir eval exec exit gc getattr globals hasattr help id importlib license locals methodcaller os quit
+setattr super sys vars
+""".split()
+
+VALUES_NOT_USED = """
+items keys values pop update append clear extend insert remove reverse setdefault sort args encode format
+""".split()
+
 
 def package_files():
     return sorted(path for path in PACKAGE.rglob("*") if "__pycache__" not in path.parts)
@@ -35,6 +46,14 @@ def trees():
 
 def nodes(kind):
     return [(name, node) for name, tree in trees().items() for node in ast.walk(tree) if isinstance(node, kind)]
+
+
+def names_bound_at_top(part):
+    if isinstance(part, ast.ImportFrom):
+        return [drawn.name for drawn in part.names]
+    if isinstance(part, ast.Assign):
+        return [part.targets[0].id]
+    return [part.name] if isinstance(part, (ast.FunctionDef, ast.ClassDef)) else []
 
 
 class Language(unittest.TestCase):
@@ -97,6 +116,73 @@ class Language(unittest.TestCase):
                 self.assertIn(node.func.id, own | set(BUILT_IN), (name, node.lineno))
             else:
                 self.assertIn(node.func.attr, own | set(OWN_METHODS_OF_PYTHON), (name, node.lineno))
+
+    def test_the_top_of_a_file(self):
+        for name, tree in trees().items():
+            self.assertIsNotNone(ast.get_docstring(tree), name)
+            bound = []
+            for part in tree.body[1:]:
+                self.assertIsInstance(part, (ast.ImportFrom, ast.FunctionDef, ast.ClassDef, ast.Assign), name)
+                bound += names_bound_at_top(part)
+            self.assertEqual(len(bound), len(set(bound)), name)
+
+    def test_no_local_is_called_like_an_import_a_class_or_a_name_of_python(self):
+        for name, tree in trees().items():
+            taken = set(dir(builtins))
+            for part in tree.body:
+                if isinstance(part, (ast.ImportFrom, ast.ClassDef)):
+                    taken |= set(names_bound_at_top(part))
+            for inner in ast.walk(tree):
+                if isinstance(inner, ast.arg):
+                    self.assertNotIn(inner.arg, taken, (name, inner.lineno))
+                if isinstance(inner, ast.Name) and isinstance(inner.ctx, ast.Store):
+                    self.assertNotIn(inner.id, taken, (name, inner.lineno))
+
+    def test_imports_are_from_the_defining_file_and_go_one_way(self):
+        found = trees()
+        drawn_from = {name: set() for name in found}
+        for name, node in nodes(ast.ImportFrom):
+            origin = node.module.split(".")[1] + ".py"
+            drawn_from[name].add(origin)
+            defined = [bound for part in found[origin].body if not isinstance(part, ast.ImportFrom)
+                       for bound in names_bound_at_top(part)]
+            for drawn in node.names:
+                self.assertIn(drawn.name, defined, (name, node.lineno))
+        left = dict(drawn_from)
+        while left:
+            ready = [name for name, origins in left.items() if not origins & set(left)]
+            self.assertNotEqual(ready, [], left)
+            for name in ready:
+                left.pop(name)
+
+    def test_every_import_is_used(self):
+        for name, tree in trees().items():
+            used = {node.id for node in ast.walk(tree) if isinstance(node, ast.Name)}
+            for part in tree.body:
+                if isinstance(part, ast.ImportFrom):
+                    self.assertLessEqual(set(names_bound_at_top(part)), used, name)
+
+    def test_names_that_are_not_used(self):
+        for name, node in nodes(ast.Name):
+            self.assertNotIn(node.id, NAMES_NOT_USED, (name, node.lineno))
+        for name, node in nodes(ast.Attribute):
+            self.assertNotIn(node.attr, NAMES_NOT_USED, (name, node.lineno))
+            if isinstance(node.ctx, ast.Store):
+                self.assertNotIn(node.attr, VALUES_NOT_USED, (name, node.lineno))
+
+    def test_is_stands_beside_none_true_and_false(self):
+        for name, node in nodes(ast.Compare):
+            for operator, right in zip(node.ops, node.comparators):
+                if isinstance(operator, (ast.Is, ast.IsNot)):
+                    self.assertIsInstance(right, ast.Constant, (name, node.lineno))
+                    self.assertIn(right.value, (None, True, False), (name, node.lineno))
+
+    def test_lists_and_dicts_of_the_top_hold_none_themselves(self):
+        for name, tree in trees().items():
+            for part in tree.body:
+                if isinstance(part, ast.Assign):
+                    inner = [node for node in ast.walk(part.value) if isinstance(node, (ast.List, ast.Dict))]
+                    self.assertLessEqual(len(inner), 1, (name, part.lineno))
 
     def test_no_name_is_a_method_and_a_value(self):
         methods = {inner.name for name, node in nodes(ast.ClassDef) for inner in node.body

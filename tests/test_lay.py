@@ -62,9 +62,9 @@ class AnotherLine(unittest.TestCase):
         machine = table.machine
         table.sink(2)
         table.press(1, 2)
-        machine.stuck = [3, None]
-        machine.artery_slipped = True
-        machine.vein_slipped = True
+        table.stick(3, None)
+        table.slip(0, 1)
+        table.slip(1, 1)
         machine.clean, machine.unlike, machine.streak, machine.uncentred, machine.still = 1, 1, 2, 5, 9
         machine.centre = (1, 20)
         machine.latches = [True] * 8

@@ -47,7 +47,7 @@ class Joined(unittest.TestCase):
 
     def test_spilt_ones_too(self):
         table = centred()
-        table.machine.vein_slipped = True
+        table.slip(1, 1)
         table.set_cell(7, 0, 0, 5)
         self.assertEqual(table.move(2), [2, 0, 5, 0])
 
@@ -69,7 +69,7 @@ class Joined(unittest.TestCase):
 
     def test_stops_in_the_middle_unlike(self):
         table = centred()
-        table.machine.stuck = [None, 101]
+        table.stick(None, 101)
         self.assertEqual(table.move(100), [2, 2, 0, 0])
 
     def test_stops_in_the_middle_thick(self):
@@ -82,7 +82,7 @@ class Joined(unittest.TestCase):
         table.move(8)
         table.wait(30)
         table.source(2, 700)
-        table.machine.stuck = [None, 600]
+        table.stick(None, 600)
         table.machine.unlike = 1
         table.machine.uncentred = 9
         table.set_cell(1, 700, 300, 0)

@@ -23,6 +23,15 @@ OTHER_RANGES = [
     (6, [1], 0, 1, 3600),
     (7, [0, 50], 0, -1000, 1000),
     (7, [0, 50], 1, -1000, 1000),
+    (9, [0], 0, 0, 1000000),
+    (10, [0, 1, 500], 0, 0, 1),
+    (10, [0, 1, 500], 1, 0, 1),
+    (10, [0, 1, 500], 2, 0, 1000),
+    (10, [1, 0, 500], 2, 0, 1000),
+    (11, [0, 1], 0, 0, 1),
+    (11, [0, 1], 1, 0, 1),
+    (14, [0], 0, 0, 7),
+    (16, [0], 0, 0, 63),
 ]
 
 
@@ -76,7 +85,10 @@ class OtherRanges(unittest.TestCase):
             for number in row[3:]:
                 call = self.with_number(row, number)
                 with self.subTest(call=call):
-                    self.assertGreaterEqual(flushed().call(*call)[0], 0)
+                    answer = flushed(n=64).call(*call)
+                    # No latch is up, so reset has another refusal for a number in its range.
+                    self.assertEqual(answer[0] < 0, call[0] == 14)
+                    self.assertNotEqual(answer, [-1])
 
     def test_beyond_the_ends_is_refused_and_nothing_changes(self):
         for row in OTHER_RANGES:
@@ -97,7 +109,14 @@ class OtherRanges(unittest.TestCase):
 
 
 class NoLine(unittest.TestCase):
-    CALLS = [[1, 2, 300], [2, 5000], [3, 0], [3, 1], [3, 2], [4, 10], [5, 1], [6, 1], [7, 0, 50], [8]]
+    CALLS = [
+        [1, 2, 300], [2, 5000], [3, 0], [3, 1], [3, 2], [4, 10], [5, 1], [6, 1], [7, 0, 50], [8], [9, 1000000],
+        [10, 0, 1, 5], [10, 1, 0, 0], [11, 0, 1], [11, 1, 1], [12], [13], [14, 0], [14, 1], [14, 7], [15],
+        [16, 0], [16, 63], [17],
+    ]
+
+    def test_all_places_are_tried(self):
+        self.assertEqual(sorted({call[0] for call in self.CALLS}), list(range(1, 18)))
 
     def test_every_call_but_lay_answers_minus_two(self):
         for call in self.CALLS:

@@ -51,7 +51,7 @@ class Step1NewCell(unittest.TestCase):
     def test_patient_with_the_arterys_needle_slipped(self):
         table = Table()
         table.source(2, 450)
-        table.machine.artery_slipped = True
+        table.slip(0, 1)
         table.move()
         self.assertEqual(table.cell(0), (0, 0, 1000))
         self.assertEqual(table.machine.totals.air_in, 9000)
@@ -61,14 +61,14 @@ class Step1NewCell(unittest.TestCase):
         table = Table()
         table.source(1, 0)
         table.bag(5000)
-        table.machine.artery_slipped = True
+        table.slip(0, 1)
         table.move()
         self.assertEqual(table.cell(0), (0, 1000, 0))
 
     def test_the_veins_needle_does_not_matter(self):
         table = Table()
         table.source(2, 450)
-        table.machine.vein_slipped = True
+        table.slip(1, 1)
         table.move()
         self.assertEqual(table.cell(0), (450, 550, 0))
 
@@ -105,7 +105,7 @@ class Step2LastCellLeaves(unittest.TestCase):
 
     def test_drain_with_the_veins_needle_slipped(self):
         table = Table()
-        table.machine.vein_slipped = True
+        table.slip(1, 1)
         self.assertEqual(self.moved(table), [(12, 34, 56), (0, 0, 0), (0, 0, 0)])
 
     def test_patient(self):
@@ -113,19 +113,19 @@ class Step2LastCellLeaves(unittest.TestCase):
 
     def test_patient_with_the_arterys_needle_slipped(self):
         table = joined()
-        table.machine.artery_slipped = True
+        table.slip(0, 1)
         self.assertEqual(self.moved(table), [(0, 0, 0), (12, 34, 56), (0, 0, 0)])
 
     def test_spilt(self):
         table = joined()
-        table.machine.vein_slipped = True
+        table.slip(1, 1)
         self.assertEqual(self.moved(table), [(0, 0, 0), (0, 0, 0), (12, 34, 56)])
 
     def test_loop(self):
-        for slipped in (False, True):
+        for slipped in (0, 1):
             table = Table()
             table.sink(2)
-            table.machine.vein_slipped = slipped
+            table.slip(1, slipped)
             self.assertEqual(self.moved(table), [(0, 0, 0), (0, 0, 0), (0, 0, 0)])
 
     def test_it_is_the_last_cell_as_it_stood_before_the_move(self):
@@ -235,7 +235,7 @@ class Step6Detector(unittest.TestCase):
         ]:
             with self.subTest(stuck=stuck):
                 table = flushed()
-                table.machine.stuck = stuck
+                table.stick(*stuck)
                 table.set_cell(5, 0, 0, 70)
                 table.move()
                 self.assertEqual(table.machine.readings, [reading, 0, 0])
@@ -322,7 +322,7 @@ class Step7Good(unittest.TestCase):
 class Step8Unlike(unittest.TestCase):
     def moved(self, stuck, times, **changes):
         table = flushed(**changes)
-        table.machine.stuck = stuck
+        table.stick(*stuck)
         seen = []
         for i in range(times):
             table.move()
@@ -349,20 +349,20 @@ class Step8Unlike(unittest.TestCase):
 
     def test_alike_in_between_begins_anew(self):
         table = flushed()
-        table.machine.stuck = [None, 101]
+        table.stick(None, 101)
         table.move()
-        table.machine.stuck = [None, 0]
+        table.stick(None, 0)
         table.move()
         self.assertEqual(table.machine.unlike, 0)
-        table.machine.stuck = [None, 101]
+        table.stick(None, 101)
         table.move()
         self.assertEqual((table.machine.unlike, table.up()), (1, []))
 
     def test_alike_leaves_the_latch_up(self):
         table = flushed()
-        table.machine.stuck = [None, 101]
+        table.stick(None, 101)
         table.move(2)
-        table.machine.stuck = [None, None]
+        table.stick(None, None)
         table.move()
         self.assertEqual((table.machine.unlike, table.up()), (0, [1]))
 
